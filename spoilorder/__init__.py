@@ -1,0 +1,1 @@
+"""Spoilorder: which check spoils which."""

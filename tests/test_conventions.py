@@ -1,0 +1,151 @@
+"""Point 2 and the interface: names, arguments, files, equal calls, arguments that stay as they were."""
+
+import copy
+import inspect
+import unittest
+
+from spoilorder import errors, logs, shops, worlds
+from spoilorder.logs import fillings, is_log, letters, samples
+from spoilorder.shops import Shop
+from spoilorder.worlds import World
+from tests.common import A, B, G, V, a_world, any_values, one_group
+
+FUNCTIONS = {
+    logs: {
+        "is_log": ["shop", "value"],
+        "fillings": ["shop", "log"],
+        "letters": ["shop", "log", "filling"],
+        "samples": ["shop", "log", "filling", "thing"],
+    },
+}
+METHODS = {
+    Shop: {
+        "__init__": ["groups"],
+        "group_of": ["check"],
+        "is_item": ["value"],
+        "is_thing": ["value"],
+        "is_letter": ["value"],
+        "__eq__": ["other"],
+    },
+    World: {
+        "__init__": ["shop", "tempers"],
+        "agrees": ["log", "filling"],
+        "start": ["many"],
+        "after": ["state", "number", "item"],
+        "freshened": ["state", "number"],
+        "cleared": ["state"],
+        "outcomes": ["order"],
+        "__eq__": ["other"],
+    },
+}
+PROPERTIES = {Shop: ["groups", "checks"], World: ["shop", "tempers", "things", "all_items"]}
+
+
+class InterfaceTest(unittest.TestCase):
+    def parameters(self, call):
+        found = inspect.signature(call).parameters.values()
+        for one in found:
+            self.assertEqual((one.kind, one.default), (one.POSITIONAL_OR_KEYWORD, one.empty))
+        return [one.name for one in found]
+
+    def test_functions(self):
+        for module, functions in FUNCTIONS.items():
+            for name, names in functions.items():
+                call = vars(module)[name]
+                self.assertTrue(inspect.isfunction(call))
+                self.assertEqual(call.__module__, module.__name__)
+                self.assertEqual(self.parameters(call), names)
+
+    def test_classes(self):
+        for made, module in [(Shop, shops), (World, worlds)]:
+            self.assertEqual(made.__module__, module.__name__)
+            self.assertEqual(made.__bases__, (object,))
+
+    def test_methods_stand_in_the_class(self):
+        for made, methods in METHODS.items():
+            for name, names in methods.items():
+                self.assertEqual(self.parameters(vars(made)[name]), ["self"] + names)
+
+    def test_properties_stand_in_the_class(self):
+        for made, names in PROPERTIES.items():
+            for name in names:
+                self.assertIsInstance(vars(made)[name], property)
+
+    def test_properties_are_not_assigned(self):
+        for value in (one_group(), a_world()):
+            for name in PROPERTIES[value.__class__]:
+                with self.assertRaises(AttributeError):
+                    setattr(value, name, ())
+
+
+class CallsTest(unittest.TestCase):
+    def setUp(self):
+        self.shop = one_group()
+        self.world = a_world()
+        self.log = (("run", "p", A, None), ("run", "q", V, "fail"), ("clear",), ("gap", "p"), ("run", "p", B, None))
+
+    def calls(self):
+        """Each function and method, with arguments that it takes."""
+        shop, world, log, filling = self.shop, self.world, self.log, ("pass", "skip")
+        state = world.start(2)
+        return [
+            (Shop, {"groups": shop.groups}),
+            (shop.group_of, {"check": "a"}),
+            (shop.is_item, {"value": A}),
+            (shop.is_thing, {"value": G}),
+            (shop.is_letter, {"value": ("gap", 3)}),
+            (is_log, {"shop": shop, "value": log}),
+            (fillings, {"shop": shop, "log": log}),
+            (letters, {"shop": shop, "log": log, "filling": filling}),
+            (samples, {"shop": shop, "log": log, "filling": filling, "thing": V}),
+            (World, {"shop": shop, "tempers": world.tempers}),
+            (world.agrees, {"log": log, "filling": filling}),
+            (world.start, {"many": 3}),
+            (world.after, {"state": state, "number": 1, "item": V}),
+            (world.freshened, {"state": state, "number": 1}),
+            (world.cleared, {"state": state}),
+            (world.outcomes, {"order": (A, V, B, V)}),
+        ]
+
+    def test_by_position_and_by_name(self):
+        for call, named in self.calls():
+            before = copy.deepcopy(named)
+            first = call(**named)
+            self.assertEqual(call(*named.values()), first)
+            self.assertEqual(call(**dict(reversed(named.items()))), first)
+            self.assertEqual(first.__class__, call(**named).__class__)
+            self.assertEqual(named, before)
+
+    def test_tuples_all_through(self):
+        def only_tuples(value):
+            if isinstance(value, tuple):
+                return all(only_tuples(part) for part in value)
+            return isinstance(value, (str, int)) and not isinstance(value, bool)
+
+        for call, named in self.calls():
+            found = call(**named)
+            if call not in (Shop, World) and not isinstance(found, bool):
+                self.assertTrue(only_tuples(found), call)
+        for value in (self.shop, self.world):
+            for name in PROPERTIES[value.__class__]:
+                self.assertTrue(name == "shop" or only_tuples(getattr(value, name)))
+
+    def test_properties_stay(self):
+        for value in (self.shop, self.world):
+            before = [getattr(value, name) for name in PROPERTIES[value.__class__]]
+            for call, named in self.calls():
+                call(**named)
+            for wrong in any_values():
+                self.assertRaises(errors.NoCheck, self.shop.group_of, wrong)
+                self.assertRaises(errors.BadOrder, self.world.outcomes, (wrong,))
+            self.assertEqual(before, [getattr(value, name) for name in PROPERTIES[value.__class__]])
+        self.assertTrue(self.shop == one_group() and self.world == a_world())
+
+    def test_errors_are_value_errors(self):
+        for call, wrong in [(Shop, []), (self.shop.group_of, []), (self.world.start, []), (self.world.outcomes, [])]:
+            self.assertRaises(ValueError, call, wrong)
+            self.assertRaises(errors.SpoilError, call, wrong)
+
+
+if __name__ == "__main__":
+    unittest.main()
