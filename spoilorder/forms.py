@@ -25,3 +25,10 @@ def is_row(value, least, most):
 def ascends(row):
     """Whether the members of the row, which Python can sort, are ascending, none of them twice."""
     return all([row[place] < row[place + 1] for place in range(len(row) - 1)])
+
+
+def is_same(value, right):
+    """Whether the value is just this tuple, integer, string or None; True is not 1 there."""
+    if isinstance(value, tuple) and isinstance(right, tuple):
+        return len(value) == len(right) and all([is_same(part, other) for part, other in zip(value, right)])
+    return isinstance(value, bool) == isinstance(right, bool) and value == right

@@ -122,13 +122,31 @@ def letters_of(shop, events, filling):
     rows = []
     for number, event in enumerate(told_of(events, filling)):
         if event[0] == "run":
-            rows.append(_run_letters(shop, number, event, opened.get(event[1], "")))
+            rows.append(run_letters(shop, number, event, opened.get(event[1], "")))
         elif event[0] == "gap":
             rows.append([("gap", number)])
         else:
             rows.append([])
         opened = _opened_behind(shop, event, opened)
     return rows
+
+
+def run_letters(shop, number, event, opened):
+    """The letters of a run that is told, on a worker where the group opened is open ("" for none)."""
+    item = event[2]
+    outcome = event[3]
+    group = shop.group_of(item[0])
+    row = []
+    if opened not in ("", group):
+        row.append(("close", opened))
+    if opened != group:
+        tried = "fail" if outcome == "skip" else "pass"
+        row.append((tried, (group, 0)))
+    if outcome == "cut":
+        row.append(("cut", number))
+    elif outcome != "skip":
+        row.append((outcome, item))
+    return row
 
 
 def samples_of(shop, events, filling):
@@ -173,21 +191,3 @@ def _opened_behind(shop, event, opened):
     elif event[0] != "clear":
         behind[event[1]] = ""
     return behind
-
-
-def _run_letters(shop, number, event, opened):
-    """The letters of a run that is told, on a worker where the group opened is open ("" for none)."""
-    item = event[2]
-    outcome = event[3]
-    group = shop.group_of(item[0])
-    row = []
-    if opened not in ("", group):
-        row.append(("close", opened))
-    if opened != group:
-        tried = "fail" if outcome == "skip" else "pass"
-        row.append((tried, (group, 0)))
-    if outcome == "cut":
-        row.append(("cut", number))
-    elif outcome != "skip":
-        row.append((outcome, item))
-    return row

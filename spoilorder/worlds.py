@@ -1,12 +1,11 @@
 """Worlds: what leaves each thing passing or failing, and the machine that runs the items of a world."""
 
-from spoilorder.errors import BadMany, BadOrder, BadWorld, NoItem, NoWorker
-from spoilorder.forms import ascends, is_integer, is_row
+from spoilorder.errors import BadWorld
+from spoilorder.forms import ascends, is_row
 from spoilorder.logs import check_filling, samples_of
+from spoilorder.states import check_number, check_run, first_state, opened_in, outcomes_of, with_row
 
 MOST_ITEMS = 5
-MOST_WORKERS = 3
-LONGEST_ORDER = 12
 KINDS = ("mends", "spoils")
 MOODS = {"mends": "pass", "spoils": "fail"}
 
@@ -60,25 +59,21 @@ class World:
 
     def start(self, many):
         """The first state of so many workers."""
-        if not is_integer(many, 1, MOST_WORKERS):
-            raise BadMany(many)
-        return (("", self._first_near),) * many, self._first_far
+        return first_state(many, self._first_near, self._first_far)
 
     def after(self, state, number, item):
         """What comes of a run of the item on the worker with this number, and the state behind it."""
-        _check_number(state, number)
-        if not self._has_item(item):
-            raise NoItem(item)
+        check_run(self, state, number, item)
         group = self._shop.group_of(item[0])
         entered = self._entered(state, number, group)
-        if _opened_in(entered, number) != group:
+        if opened_in(entered, number) != group:
             return "skip", entered
         return self._tried(entered, number, item)
 
     def freshened(self, state, number):
         """The state behind making the worker with this number fresh."""
-        _check_number(state, number)
-        return _with_row(state, number, ("", self._first_near))
+        check_number(state, number)
+        return with_row(state, number, ("", self._first_near))
 
     def cleared(self, state):
         """The state behind making the store clear."""
@@ -86,27 +81,16 @@ class World:
 
     def outcomes(self, order):
         """What comes of the items of the order, run on one worker from the start on."""
-        if not is_row(order, 0, LONGEST_ORDER) or not all([self._has_item(item) for item in order]):
-            raise BadOrder(order)
-        state = self.start(1)
-        found = []
-        for item in order:
-            outcome, state = self.after(state, 0, item)
-            found.append(outcome)
-        return tuple(found)
-
-    def _has_item(self, value):
-        # The shop is asked first: ("a", True) equals ("a", 1) and is no item.
-        return self._shop.is_item(value) and value in self._all_items
+        return outcomes_of(self, order)
 
     def _entered(self, state, number, group):
         """The state in which the group has been opened on the worker, or its opening has failed."""
-        opened = _opened_in(state, number)
+        opened = opened_in(state, number)
         if opened == group:
             return state
         closed = state if opened == "" else self._heard(state, number, ("close", opened))
         outcome, tried = self._tried(closed, number, (group, 0))
-        return _with_row(tried, number, (group if outcome == "pass" else "", tried[0][number][1]))
+        return with_row(tried, number, (group if outcome == "pass" else "", tried[0][number][1]))
 
     def _tried(self, state, number, thing):
         """The outcome of a thing that is tried on the worker, and the state behind its letter."""
@@ -119,8 +103,15 @@ class World:
     def _heard(self, state, number, letter):
         """The state behind a letter that came on the worker with this number."""
         opened, moods = state[0][number]
-        rows, store = _with_row(state, number, (opened, _turned(self._near_turns, moods, letter)))
+        rows, store = with_row(state, number, (opened, _turned(self._near_turns, moods, letter)))
         return rows, _turned(self._far_turns, store, letter)
+
+
+def is_temper(shop, value):
+    """Whether the value has the form of a temper of a thing of the shop."""
+    if not is_row(value, 4, 4) or not shop.is_thing(value[0]):
+        return False
+    return value[1] in ("near", "far") and value[2] in ("pass", "fail") and are_kinds(shop, value[3], KINDS)
 
 
 def are_kinds(shop, value, words):
@@ -157,15 +148,9 @@ def _is_kind(shop, value, words):
     return is_row(value, 2, 2) and shop.is_letter(value[0]) and value[1] in words
 
 
-def _is_temper(shop, value):
-    if not is_row(value, 4, 4) or not shop.is_thing(value[0]):
-        return False
-    return value[1] in ("near", "far") and value[2] in ("pass", "fail") and are_kinds(shop, value[3], KINDS)
-
-
 def _are_tempers(shop, value):
     """Whether the value can be the tempers of a world."""
-    if not isinstance(value, tuple) or not all([_is_temper(shop, temper) for temper in value]):
+    if not isinstance(value, tuple) or not all([is_temper(shop, temper) for temper in value]):
         return False
     things = [temper[0] for temper in value]
     items = _items_among(value)
@@ -183,22 +168,6 @@ def _is_among(letter, things):
 
 def _items_among(tempers):
     return tuple([temper[0] for temper in tempers if temper[0][1] > 0])
-
-
-def _check_number(state, number):
-    """Raises NoWorker for what is no number of a worker of the state."""
-    if not is_integer(number, 0, len(state[0]) - 1):
-        raise NoWorker(number)
-
-
-def _opened_in(state, number):
-    return state[0][number][0]
-
-
-def _with_row(state, number, row):
-    """The state with another row for the worker with this number."""
-    rows, store = state
-    return rows[:number] + (row,) + rows[number + 1:], store
 
 
 def _turned(turns, moods, letter):

@@ -2,6 +2,7 @@
 
 import itertools
 
+from spoilorder.glasses import Glass
 from spoilorder.worlds import World
 
 OUTCOMES = ("fail", "pass", "skip")
@@ -105,3 +106,57 @@ def random_world(chance, shop):
         first = chance.choice(("pass", "pass", "fail"))
         tempers.append((thing, chance.choice(("near", "far")), first, kinds))
     return World(shop, tuple(tempers))
+
+
+def random_glass(chance, many=5):
+    """A glass with commands of each kind, in one to three groups."""
+    cells = []
+    for name in "cdef"[:chance.randrange(1, 5)]:
+        words = chance.choice((("ok", "bad"), ("ok", "bad"), ("lo", "mid", "hi")))
+        cells.append((chance.choice(("cell", "shared")), name, words))
+    lines = [" ".join((kind, name) + words) for kind, name, words in cells]
+    checks = chance.sample([("g", "a"), ("g", "b"), ("h", "v"), ("h", "w"), ("k", "x")], chance.randrange(1, many + 1))
+    for group in "ghk":
+        own = sorted(check for home_of, check in checks if home_of == group)
+        if own:
+            lines.append("group " + group)
+            for block in ("open", "close"):
+                if chance.random() < 0.5:
+                    lines.append("  " + block)
+                    lines += random_commands(chance, cells, 2, 1, block == "open")
+            for check in own:
+                lines.append("  check " + check + " 1")
+                lines += random_commands(chance, cells, 2, 0, True)
+    return Glass("\n".join(lines))
+
+
+def random_commands(chance, cells, depth, least, failing):
+    lines = []
+    blanks = "  " * depth
+    for _ in range(chance.randrange(least, 4)):
+        _, name, words = chance.choice(cells)
+        word = chance.choice(("set", "set", "want", "copy", "if", "fail"))
+        if word == "set" or (word == "want" and failing):
+            lines.append(f"{blanks}{word} {name} {chance.choice(words)}")
+        elif word == "copy":
+            lines.append(f"{blanks}copy {name} to {chance.choice([cell[1] for cell in cells if cell[2] == words])}")
+        elif word == "if" and depth < 4:
+            lines.append(f"{blanks}if {name} = {chance.choice(words)}")
+            lines += random_commands(chance, cells, depth + 1, 1, failing)
+            if chance.random() < 0.5:
+                lines.append(blanks + "else")
+                lines += random_commands(chance, cells, depth + 1, 1, failing)
+        elif word == "fail" and failing and chance.random() < 0.3:
+            lines.append(blanks + "fail")
+    if len(lines) < least:
+        lines.append(f"{blanks}set {cells[0][1]} {cells[0][2][1]}")
+    return lines
+
+
+def is_plain_item(machine, value):
+    """Whether it is an item of the machine, a bool being no integer."""
+    return isinstance(value, tuple) and len(value) == 2 and value[1].__class__ == int and value in machine.all_items
+
+
+def is_plain_order(machine, value):
+    return isinstance(value, tuple) and all(is_plain_item(machine, item) for item in value)

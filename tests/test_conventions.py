@@ -4,18 +4,50 @@ import copy
 import inspect
 import unittest
 
-from spoilorder import errors, logs, shops, worlds
+from spoilorder import errors, glasses, logs, looks, machines, shops, striking, worlds
+from spoilorder.glasses import Glass
 from spoilorder.logs import fillings, is_log, letters, samples
+from spoilorder.looks import shows_filled, shows_under
+from spoilorder.machines import alike, shows_alike, shows_shrunk, shows_worst, shrunk, worst
 from spoilorder.shops import Shop
+from spoilorder.striking import filled, forecast, kinds, possible, under, wheres
 from spoilorder.worlds import World
-from tests.common import A, B, G, V, a_world, any_values, one_group
+from tests.common import A, B, G, V, a_glass, a_world, any_values, one_group
 
+MACHINE_METHODS = {
+    "start": ["many"],
+    "after": ["state", "number", "item"],
+    "freshened": ["state", "number"],
+    "cleared": ["state"],
+    "outcomes": ["order"],
+    "__eq__": ["other"],
+}
 FUNCTIONS = {
     logs: {
         "is_log": ["shop", "value"],
         "fillings": ["shop", "log"],
         "letters": ["shop", "log", "filling"],
         "samples": ["shop", "log", "filling", "thing"],
+    },
+    machines: {
+        "worst": ["machine", "thing"],
+        "shows_worst": ["machine", "thing", "value"],
+        "alike": ["one", "other", "many"],
+        "shows_alike": ["one", "other", "many", "value"],
+        "shrunk": ["machine", "order"],
+        "shows_shrunk": ["machine", "order", "value"],
+    },
+    striking: {
+        "filled": ["shop", "log"],
+        "possible": ["shop", "log"],
+        "forecast": ["shop", "log"],
+        "under": ["shop", "log", "thing", "held"],
+        "kinds": ["shop", "log", "thing", "letter"],
+        "wheres": ["shop", "log", "thing"],
+    },
+    looks: {
+        "shows_filled": ["shop", "log", "value"],
+        "shows_under": ["shop", "log", "thing", "held", "value"],
     },
 }
 METHODS = {
@@ -27,26 +59,27 @@ METHODS = {
         "is_letter": ["value"],
         "__eq__": ["other"],
     },
-    World: {
-        "__init__": ["shop", "tempers"],
-        "agrees": ["log", "filling"],
-        "start": ["many"],
-        "after": ["state", "number", "item"],
-        "freshened": ["state", "number"],
-        "cleared": ["state"],
-        "outcomes": ["order"],
-        "__eq__": ["other"],
-    },
+    World: {"__init__": ["shop", "tempers"], "agrees": ["log", "filling"], **MACHINE_METHODS},
+    Glass: {"__init__": ["text"], **MACHINE_METHODS},
 }
-PROPERTIES = {Shop: ["groups", "checks"], World: ["shop", "tempers", "things", "all_items"]}
+PROPERTIES = {
+    Shop: ["groups", "checks"],
+    World: ["shop", "tempers", "things", "all_items"],
+    Glass: ["text", "shop", "all_items", "things", "cells"],
+}
 
 
 class InterfaceTest(unittest.TestCase):
     def parameters(self, call):
-        found = inspect.signature(call).parameters.values()
-        for one in found:
-            self.assertEqual((one.kind, one.default), (one.POSITIONAL_OR_KEYWORD, one.empty))
-        return [one.name for one in found]
+        """The names of the parameters; those behind a `*` behind one, with their defaults."""
+        found = []
+        for one in inspect.signature(call).parameters.values():
+            if one.kind == one.KEYWORD_ONLY:
+                found.append(("*", one.name, one.default))
+            else:
+                self.assertEqual((one.kind, one.default), (one.POSITIONAL_OR_KEYWORD, one.empty))
+                found.append(one.name)
+        return found
 
     def test_functions(self):
         for module, functions in FUNCTIONS.items():
@@ -57,7 +90,7 @@ class InterfaceTest(unittest.TestCase):
                 self.assertEqual(self.parameters(call), names)
 
     def test_classes(self):
-        for made, module in [(Shop, shops), (World, worlds)]:
+        for made, module in [(Shop, shops), (World, worlds), (Glass, glasses)]:
             self.assertEqual(made.__module__, module.__name__)
             self.assertEqual(made.__bases__, (object,))
 
@@ -72,7 +105,7 @@ class InterfaceTest(unittest.TestCase):
                 self.assertIsInstance(vars(made)[name], property)
 
     def test_properties_are_not_assigned(self):
-        for value in (one_group(), a_world()):
+        for value in (one_group(), a_world(), a_glass()):
             for name in PROPERTIES[value.__class__]:
                 with self.assertRaises(AttributeError):
                     setattr(value, name, ())
@@ -82,6 +115,7 @@ class CallsTest(unittest.TestCase):
     def setUp(self):
         self.shop = one_group()
         self.world = a_world()
+        self.glass = a_glass()
         self.log = (("run", "p", A, None), ("run", "q", V, "fail"), ("clear",), ("gap", "p"), ("run", "p", B, None))
 
     def calls(self):
@@ -105,6 +139,38 @@ class CallsTest(unittest.TestCase):
             (world.freshened, {"state": state, "number": 1}),
             (world.cleared, {"state": state}),
             (world.outcomes, {"order": (A, V, B, V)}),
+        ] + self.machine_calls() + self.striking_calls()
+
+    def machine_calls(self):
+        world, glass = self.world, self.glass
+        state = glass.start(2)
+        return [
+            (Glass, {"text": glass.text}),
+            (glass.start, {"many": 3}),
+            (glass.after, {"state": state, "number": 1, "item": V}),
+            (glass.freshened, {"state": state, "number": 1}),
+            (glass.cleared, {"state": state}),
+            (glass.outcomes, {"order": (A, V, B, V)}),
+            (worst, {"machine": glass, "thing": V}),
+            (worst, {"machine": world, "thing": A}),
+            (shows_worst, {"machine": glass, "thing": V, "value": ("fails", (A, V))}),
+            (alike, {"one": world, "other": glass, "many": 2}),
+            (shows_alike, {"one": world, "other": glass, "many": 2, "value": ("parts", ())}),
+            (shrunk, {"machine": world, "order": (B, A, A, V)}),
+            (shows_shrunk, {"machine": world, "order": (B, A, A, V), "value": ("kept", (1, 3), ())}),
+        ]
+
+    def striking_calls(self):
+        shop, log, held = self.shop, self.log, ("near", None, ((("pass", A), "idle"),))
+        return [
+            (filled, {"shop": shop, "log": log}),
+            (shows_filled, {"shop": shop, "log": log, "value": filled(shop, log)}),
+            (possible, {"shop": shop, "log": log}),
+            (forecast, {"shop": shop, "log": log}),
+            (under, {"shop": shop, "log": log, "thing": V, "held": held}),
+            (shows_under, {"shop": shop, "log": log, "thing": V, "held": held, "value": under(shop, log, V, held)}),
+            (kinds, {"shop": shop, "log": log, "thing": V, "letter": ("pass", A)}),
+            (wheres, {"shop": shop, "log": log, "thing": V}),
         ]
 
     def test_by_position_and_by_name(self):
@@ -120,29 +186,32 @@ class CallsTest(unittest.TestCase):
         def only_tuples(value):
             if isinstance(value, tuple):
                 return all(only_tuples(part) for part in value)
-            return isinstance(value, (str, int)) and not isinstance(value, bool)
+            return isinstance(value, (str, int, World)) and not isinstance(value, bool)
 
         for call, named in self.calls():
             found = call(**named)
-            if call not in (Shop, World) and not isinstance(found, bool):
+            if call not in (Shop, World, Glass) and not isinstance(found, bool):
                 self.assertTrue(only_tuples(found), call)
-        for value in (self.shop, self.world):
+        for value in (self.shop, self.world, self.glass):
             for name in PROPERTIES[value.__class__]:
-                self.assertTrue(name == "shop" or only_tuples(getattr(value, name)))
+                # The cells of a glass tell by a bool whether they are shared.
+                self.assertTrue(name in ("shop", "cells") or only_tuples(getattr(value, name)))
 
     def test_properties_stay(self):
-        for value in (self.shop, self.world):
+        for value in (self.shop, self.world, self.glass):
             before = [getattr(value, name) for name in PROPERTIES[value.__class__]]
             for call, named in self.calls():
                 call(**named)
             for wrong in any_values():
                 self.assertRaises(errors.NoCheck, self.shop.group_of, wrong)
                 self.assertRaises(errors.BadOrder, self.world.outcomes, (wrong,))
+                self.assertRaises(errors.BadOrder, self.glass.outcomes, (wrong,))
             self.assertEqual(before, [getattr(value, name) for name in PROPERTIES[value.__class__]])
-        self.assertTrue(self.shop == one_group() and self.world == a_world())
+        self.assertTrue(self.shop == one_group() and self.world == a_world() and self.glass == a_glass())
 
     def test_errors_are_value_errors(self):
-        for call, wrong in [(Shop, []), (self.shop.group_of, []), (self.world.start, []), (self.world.outcomes, [])]:
+        for call, wrong in [(Shop, []), (self.shop.group_of, []), (self.world.start, []), (self.world.outcomes, []),
+                            (Glass, [])]:
             self.assertRaises(ValueError, call, wrong)
             self.assertRaises(errors.SpoilError, call, wrong)
 

@@ -153,6 +153,52 @@ class FormTest(unittest.TestCase):
             if node.name == "__eq__":
                 self.assertRegex(ast.unparse(node.body[0]), r"^return isinstance\(other, \w+\) and self\.", where)
 
+    def test_classes_and_properties(self):
+        """L5, L12, L18"""
+        made = [node for _, node in self.nodes(ast.ClassDef)]
+        properties = {
+            node.name for one in made for node in one.body
+            if isinstance(node, ast.FunctionDef) and [over for over in node.decorator_list if over.id == "property"]}
+        self.assertIn("all_items", properties)
+        for one in made:
+            self.assertRegex(one.name, "^[A-Z][A-Za-z0-9]*$")
+            plain = {
+                node.name for node in one.body if isinstance(node, ast.FunctionDef) and not node.decorator_list}
+            self.assertEqual(plain & properties, set(), one.name)
+        for where, node in self.nodes(ast.Attribute):
+            if isinstance(node.ctx, ast.Store):
+                self.assertNotIn(node.attr, properties, where)
+
+    def test_lambdas(self):
+        """L13"""
+        lines = [where for where, _ in self.nodes(ast.Lambda)]
+        self.assertEqual(len(lines), len(set(lines)))
+
+    def test_everything_imported_is_used(self):
+        for path, tree in self.trees.items():
+            names = {alias.name for node in tree.body if isinstance(node, ast.ImportFrom) for alias in node.names}
+            used = {node.id for node in ast.walk(tree) if isinstance(node, ast.Name)}
+            self.assertLessEqual(names, used, path)
+
+    def test_calls_of_own_functions(self):
+        """L22"""
+        own = {}
+        for path, tree in self.trees.items():
+            for node in tree.body:
+                if isinstance(node, ast.FunctionDef):
+                    own.setdefault(node.name, []).append((path, node.args))
+        for path, tree in self.trees.items():
+            for node in ast.walk(tree):
+                starred = isinstance(node, ast.Call) and [part for part in node.args if isinstance(part, ast.Starred)]
+                if not isinstance(node, ast.Call) or not isinstance(node.func, ast.Name) or starred:
+                    continue
+                told = own.get(node.func.id, [])
+                told = [args for where, args in told if where == path] or [args for _, args in told]
+                if told:
+                    many = len(node.args) + len([part for part in node.keywords if part.arg not in [
+                        one.arg for one in told[0].kwonlyargs]])
+                    self.assertEqual(many, len(told[0].args), f"{path.name}:{node.lineno}")
+
     def test_names(self):
         """L12, L15, L17"""
         for path, tree in self.trees.items():
