@@ -4,11 +4,17 @@ import copy
 import inspect
 import unittest
 
-from spoilorder import errors, glasses, logs, looks, machines, shops, striking, worlds
+from spoilorder import (
+    asking, culprits as culprits_file, drawing, errors, glasses, logs, looks, machines, plans, shops, striking, worlds)
+from spoilorder.asking import asked, shows_asked
+from spoilorder.culprits import culprits, suspects
+from spoilorder.drawing import drawn, drawn_under, glass_of, shows_drawn, shows_drawn_under
 from spoilorder.glasses import Glass
 from spoilorder.logs import fillings, is_log, letters, samples
 from spoilorder.looks import shows_filled, shows_under
 from spoilorder.machines import alike, shows_alike, shows_shrunk, shows_worst, shrunk, worst
+from spoilorder.plans import (
+    is_safe, mended, queue, shows_mended, shows_queue, shows_safe, shows_spread, spread)
 from spoilorder.shops import Shop
 from spoilorder.striking import filled, forecast, kinds, possible, under, wheres
 from spoilorder.worlds import World
@@ -22,6 +28,7 @@ MACHINE_METHODS = {
     "outcomes": ["order"],
     "__eq__": ["other"],
 }
+LOOSE = ("*", "loose", ())
 FUNCTIONS = {
     logs: {
         "is_log": ["shop", "value"],
@@ -48,6 +55,31 @@ FUNCTIONS = {
     looks: {
         "shows_filled": ["shop", "log", "value"],
         "shows_under": ["shop", "log", "thing", "held", "value"],
+    },
+    drawing: {
+        "drawn": ["machine", "many"],
+        "drawn_under": ["machine", "many", "thing", "held"],
+        "shows_drawn": ["machine", "many", "value"],
+        "shows_drawn_under": ["machine", "many", "thing", "held", "value"],
+        "glass_of": ["world"],
+    },
+    culprits_file: {
+        "culprits": ["shop", "log", "event", "thing"],
+        "suspects": ["shop", "log", "event", "thing"],
+    },
+    plans: {
+        "is_safe": ["shop", "log", "runs", LOOSE],
+        "shows_safe": ["shop", "log", "runs", "value", LOOSE],
+        "spread": ["shop", "log", "items", "workers", LOOSE],
+        "shows_spread": ["shop", "log", "items", "workers", "value", LOOSE],
+        "queue": ["shop", "log", "items", "workers", LOOSE],
+        "shows_queue": ["shop", "log", "items", "workers", "value", LOOSE],
+        "mended": ["shop", "log", "items", "menders", "worker", "most"],
+        "shows_mended": ["shop", "log", "items", "menders", "worker", "most", "value"],
+    },
+    asking: {
+        "asked": ["shop", "log", "trials", "question", "most"],
+        "shows_asked": ["shop", "log", "trials", "question", "most", "value"],
     },
 }
 METHODS = {
@@ -139,7 +171,7 @@ class CallsTest(unittest.TestCase):
             (world.freshened, {"state": state, "number": 1}),
             (world.cleared, {"state": state}),
             (world.outcomes, {"order": (A, V, B, V)}),
-        ] + self.machine_calls() + self.striking_calls()
+        ] + self.machine_calls() + self.striking_calls() + self.planning_calls()
 
     def machine_calls(self):
         world, glass = self.world, self.glass
@@ -173,6 +205,39 @@ class CallsTest(unittest.TestCase):
             (wheres, {"shop": shop, "log": log, "thing": V}),
         ]
 
+    def planning_calls(self):
+        shop, world, glass, held = self.shop, self.world, self.glass, ("near", None, ((("pass", A), "idle"),))
+        told = (("run", "p", A, "pass"), ("run", "p", V, "fail"), ("clear",), ("fresh", "p"), ("run", "p", V, "pass"))
+        runs, trials = (("run", "p", B, None), ("run", "q", V, None)), ((("run", "p", B, None),),)
+        return [
+            (drawn, {"machine": glass, "many": 2}),
+            (shows_drawn, {"machine": world, "many": 2, "value": ("world", world)}),
+            (drawn_under, {"machine": glass, "many": 1, "thing": V, "held": held}),
+            (shows_drawn_under, {"machine": glass, "many": 1, "thing": V, "held": held, "value": ("clash", ())}),
+            (glass_of, {"world": world}),
+            (culprits, {"shop": shop, "log": told, "event": 1, "thing": V}),
+            (suspects, {"shop": shop, "log": told, "event": 1, "thing": V}),
+            (is_safe, {"shop": shop, "log": told, "runs": runs}),
+            (shows_safe, {"shop": shop, "log": told, "runs": runs, "value": is_safe(shop, told, runs)}),
+            (spread, {"shop": shop, "log": told, "items": (A, V), "workers": ("p", "q")}),
+            (shows_spread, {"shop": shop, "log": told, "items": (A, V), "workers": ("p", "q"), "value": ("none", ())}),
+            (queue, {"shop": shop, "log": told, "items": (A, V), "workers": ("p", "q")}),
+            (shows_queue, {"shop": shop, "log": told, "items": (A, V), "workers": ("p", "q"), "value": ("none", ())}),
+            (mended, {"shop": shop, "log": told, "items": (A,), "menders": (B,), "worker": "p", "most": 1}),
+            (shows_mended, {
+                "shop": shop, "log": told, "items": (A,), "menders": (B,), "worker": "p", "most": 1, "value": ("none", ())}),
+            (asked, {"shop": shop, "log": told, "trials": trials, "question": ("where", V), "most": 1}),
+            (shows_asked, {
+                "shop": shop, "log": told, "trials": trials, "question": ("where", V), "most": 1, "value": ("open", ())}),
+        ]
+
+    def test_loose_by_name_only(self):
+        runs = (("run", "p", B, None), ("run", "q", V, None))
+        for call, args in [(is_safe, [runs]), (shows_safe, [runs, ("safe",)]), (spread, [(B, V), ("p",)]), (queue, [(B, V), ("p",)]),
+                           (shows_spread, [(B, V), ("p",), None]), (shows_queue, [(B, V), ("p",), None])]:
+            call(self.shop, self.log[:2], *args, loose=(B,))
+            self.assertRaises(TypeError, call, self.shop, self.log[:2], *args, (B,))
+
     def test_by_position_and_by_name(self):
         for call, named in self.calls():
             before = copy.deepcopy(named)
@@ -186,7 +251,7 @@ class CallsTest(unittest.TestCase):
         def only_tuples(value):
             if isinstance(value, tuple):
                 return all(only_tuples(part) for part in value)
-            return isinstance(value, (str, int, World)) and not isinstance(value, bool)
+            return value is None or isinstance(value, (str, int, World)) and not isinstance(value, bool)
 
         for call, named in self.calls():
             found = call(**named)
