@@ -30,7 +30,7 @@ class Roaming:
 
     def sample(self, thing, where, told):
         """The outcome and the letters of the sample that is the row told, () if it is none."""
-        if told == () or not are_moves(self._machine, self._many, told):
+        if not are_moves(self._machine, self._many, told):
             return ()
         events = events_of(self._machine, self._many, told)
         for event, outcome, near, far in samples_of(self._machine.shop, events, ()).get(thing, ()):

@@ -71,8 +71,8 @@ def _struck_out(source, thing, where, held):
         ends = _ends_of(lasts, held[1], fixed)
         if ends:
             return (), (where, tuple(strikings), ends)
-        fallen = [letter for letter in sorted(list(lasts)) if letter not in fixed and len(lasts[letter]) == 2]
-        fallen = [letter for letter in fallen if letter != ()]
+        # Held letters and () are none of these: with both outcomes they would have made ends.
+        fallen = [letter for letter in sorted(list(lasts)) if len(lasts[letter]) == 2]
         if not fallen:
             first, kinds = _left_of(lasts, held[1], fixed)
             return (thing, where, first, kinds), ()

@@ -219,7 +219,7 @@ class ShowsAlikeTest(unittest.TestCase):
                 (("run", False, A), ("run", 1, V)), (("run", 0, A), ("run", True, V)), (["run", 0, A], ("run", 1, V)),
                 (("run", 0, A), ("run", 1, ("v", True))), (("run", 0, A), ("run", 1, ("v", 2))),
                 (("run", 0, A), ("run", 1, V, None)), (("clear", 0),) + parting, (("fresh",),) + parting,
-                (("fresh", 0, 0),) + parting, (("gap", 0),) + parting, (("fresh", 2),) + parting, ((),) + parting,
+                (("fresh", 0, 0),) + parting, (("walk", 0, A),) + parting, (("run", 0, A, V),) + parting, (("gap", 0),) + parting, (("fresh", 2),) + parting, ((),) + parting,
                 ("clear",) + parting, (("run", "0", A), ("run", 1, V)), None, "parts"]:
             self.assertFalse(shows_alike(near, far, 2, ("parts", moves)), moves)
         self.assertFalse(shows_alike(near, far, 1, ("parts", parting)))

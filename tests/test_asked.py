@@ -98,6 +98,13 @@ class AskedTest(unittest.TestCase):
         anew = (("clear",), ("fresh", "p"), told_run("p", A), told_run("p", A))
         self.assertEqual(self.check((), (anew,), ("events", anew), 2)[:2], ("settles", 1))
 
+    def test_a_contrary_of_a_row_behind_which_no_tree_is_left(self):
+        # Behind the first row of outcomes that leaves the question open there is a tree of one trial, behind another none.
+        log, question = (told_run("p", A, "pass"),), ("events", (("fresh", "p"), told_run("p", A)))
+        twice = (("fresh", "p"), told_run("p", A), told_run("p", A))
+        for trials in [(twice,), (ALONE[1] + (told_run("p", A),), twice), (twice[:2], (("clear",), told_run("p", A)))]:
+            self.assertEqual(self.check(log, trials, question, 2)[0], "open")
+
     def test_none_is_enough(self):
         for most in (0, 1, 2):
             found = self.check((), (NEAR_OR_FAR, MENDING), ("where", B), most)
@@ -263,6 +270,14 @@ class ShowsAskedTest(unittest.TestCase):
                 (("run", 1, tuple((row, ["settled"]) for row in rows)), False)]:
             value = ("settles", 1, tree, found[3])
             self.assertEqual(shows_asked(SHOP, SPOILT, trials, question, 2, value), good, tree)
+        # A tree by which two trials are run on some way.
+        deeper = ("run", 1, tuple((row, ("run", 1, found[2][2] if place == 0 else ())) for place, row in enumerate(rows)))
+        self.assertFalse(shows_asked(SHOP, SPOILT, trials, question, 2, ("settles", 1, deeper, found[3])))
+        again = [("run", 2, ((row, leaf),)) for row in rows]
+        deeper = ("run", 1, ((rows[0], again[0]),) + tuple((row, leaf) for row in rows[1:]))
+        plain = PlainAsking(SHOP, trials, question)
+        self.assertTrue(plain.is_tree(SPOILT, 2, deeper))
+        self.assertFalse(shows_asked(SHOP, SPOILT, trials, question, 2, ("settles", 1, deeper, found[3])))
         for number in (0, 2, True, None, "1"):
             self.assertFalse(shows_asked(SHOP, SPOILT, trials, question, 2, ("settles", number) + found[2:]))
         self.assertFalse(shows_asked(SHOP, SPOILT, trials, question, 2, ("open", found[3])))

@@ -7,6 +7,7 @@ from spoilorder.drawing import drawn, drawn_under, shows_drawn, shows_drawn_unde
 from spoilorder.errors import BadHeld, BadMany, NoThing, TooMany
 from spoilorder.glasses import Glass
 from spoilorder.machines import alike
+from spoilorder.shops import Shop
 from spoilorder.striking import filled
 from spoilorder.worlds import World
 from tests.common import (
@@ -289,6 +290,22 @@ class ShowsTest(unittest.TestCase):
         for row in [run(B, B, V), run(A, B) + (("fresh", 0),) + run(B, V), run(V, V) + (("fresh", 0),) + good]:
             value = ("clash", (("near", (), (run(V), row)),))
             self.assertTrue(shows_drawn_under(TWO_CELLS, 1, V, held, value), row)
+
+    def test_words_things_and_lengths(self):
+        found = drawn(TWO_CELLS, 1)
+        for value in [("never",) + found[1:], ("world",) + found[1:], found + ((),), found + ((), ()), found[:2],
+                      ("none", ("v", True), found[2]), ("none", ["v", 1], found[2]), ("none", None, found[2]), ("none", [], found[2]),
+                      ("none", {}, found[2]), ("none", A, found[2]), ("none", ("x", 1), found[2]), ("none", ("v", 1), found[2], ())]:
+            self.assertFalse(shows_drawn(TWO_CELLS, 1, value), value)
+        world = drawn(a_glass(), 1)
+        for value in [world + ((),), world[:1], ("none",) + world[1:], ("temper",) + world[1:]]:
+            self.assertFalse(shows_drawn(a_glass(), 1, value))
+        bigger = Shop((("g", ("a", "b", "v")), ("h", ("w",))))
+        self.assertTrue(shows_drawn(a_glass(), 1, ("world", World(one_group(), a_world().tempers))))
+        self.assertFalse(shows_drawn(a_glass(), 1, ("world", World(bigger, a_world().tempers))))
+        under_near = drawn_under(a_glass(), 1, V, ("near", None, ()))
+        for value in [under_near + ((),), under_near[:1], ("clash",) + under_near[1:], ("world",) + under_near[1:]]:
+            self.assertFalse(shows_drawn_under(a_glass(), 1, V, ("near", None, ()), value))
 
     def test_one_thing_otherwise(self):
         chance = random.Random(65)

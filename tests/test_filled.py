@@ -6,6 +6,7 @@ import unittest
 from spoilorder.errors import BadLog
 from spoilorder.logs import is_log
 from spoilorder.looks import shows_filled
+from spoilorder.shops import Shop
 from spoilorder.striking import filled, forecast, possible
 from spoilorder.worlds import World
 from tests.common import A, B, G, H, V, a_world, any_values, assert_raises, one_group, some_otherwise, two_groups
@@ -133,6 +134,11 @@ class ShowsFilledTest(unittest.TestCase):
         same = World(two_groups(), ((H, "near", "pass", ()), (V, "near", "pass", ())))
         self.assertTrue(shows_filled(two_groups(), log, (((), ("world", same)),)))
         self.assertFalse(shows_filled(SHOP, log, (((), ("world", same)),)))
+        # It agrees, but is one of another shop.
+        bigger = World(Shop((("g", ("a", "b", "v")), ("h", ("w",)))), other.tempers)
+        self.assertTrue(bigger.agrees(LOG, ()))
+        self.assertFalse(shows_filled(SHOP, LOG, (((), ("world", bigger)),)))
+        self.assertFalse(shows_filled(SHOP, LOG, (((), ("world", other, other)),)))
 
     def test_other_fillings(self):
         log = LOG + (("run", "p", A, None),)

@@ -194,6 +194,12 @@ class TextsTest(unittest.TestCase):
         self.wrong(2, *GROUP, "group f", "  check b 1")
         self.wrong(0, "  check a 1")
         self.wrong(1, "group g", "group h", "  check a 1")
+        for word in ("grou", "groups", "open", "close", "check", "set", "fail", "Group", "g"):
+            self.wrong(0, f"{word} g", "  check a 1")
+            self.wrong(2, *GROUP, f"{word} h", "  check b 1")
+            if word != "check":
+                self.wrong(1, "group g", f"  {word} a 1")
+            self.wrong(4, *self.below_check(f"    {word} c to c"))
         for word in KEPT:
             self.right(f"group {word}", f"  check {'x' + word[:7]} 1")
             self.right("group g", f"  check {word} 1")
@@ -315,6 +321,7 @@ class TextsTest(unittest.TestCase):
         lines = ["group g"] + [f"  check {name} 1" for name in "abcd"] + ["group h", "  check a 1", "  check e 1"]
         self.assertRaises(BadShop, Glass, "\n".join(lines))
         self.wrong(8, *lines, "  check f 1")
+        self.assertRaises(BadShop, Glass, "\n".join(lines + ["group k", "  check a 1"]))
         self.assertRaises(BadShop, Glass, "\n".join(lines[:6] + ["  check a 1", "  check b 1", "  check c 1"]))
 
 

@@ -4,7 +4,7 @@ import random
 import unittest
 
 from spoilorder.errors import BadItems, BadLog, BadMost, Full, NoWorker, NoWorld
-from spoilorder.plans import mended, shows_mended
+from spoilorder.plans import is_safe, mended, shows_mended
 from tests.common import A, B, G, V, a_world, any_values, assert_raises, one_group, some_otherwise
 from tests.plain_plans import all_mended, is_mended, is_plain_safe, is_unsafe, runs_of
 from tests.test_filled import NO_WORLD
@@ -132,9 +132,30 @@ class ShowsMendedTest(unittest.TestCase):
                 self.assertEqual(shows_mended(SHOP, LOG, (A, V), (B,), "p", 2, value), right, order)
                 added += right
         self.assertGreater(added, 0)
+        # What is not safe is shown by is_safe; whether the order may stand there is another question.
+        seen = []
+        for order in [(V, V), (V, V, A), (V, B, V), (V, B, A), (V, B, B, A), (B, B), (B, B, B), (V, A), (V, A, B), (A, V, B),
+                      (("b", 2),), (V, ("b", 2)), (("v", 2), V), (B, A, V), (A, A), (V, B, B, B)]:
+            told = is_safe(SHOP, LOG, runs_of("p", order)) if len(order) < 4 else ("safe",)
+            entry = (order,) + told[1:]
+            if told[0] == "unsafe" and order not in early:
+                value = found[:2] + (tuple(sorted(found[2] + (entry,), key=lambda row: row[0])),)
+                right = is_mended(SHOP, LOG, (A, V), (B,), "p", 2, value)
+                self.assertEqual(shows_mended(SHOP, LOG, (A, V), (B,), "p", 2, value), right, order)
+                seen.append(right)
+        self.assertGreater(seen.count(True), 1)
+        self.assertGreater(seen.count(False), 5)
         # Fewer ones do not, and none twice, and only in their sequence.
         for book in [found[2][1:], found[2][::-1], found[2] + found[2][-1:], list(found[2]), ()]:
             self.assertFalse(shows_mended(SHOP, LOG, (A, V), (B,), "p", 2, found[:2] + (book,)))
+
+    def test_lengths(self):
+        for most in (0, 1):
+            found = mended(SHOP, LOG, (A, V), (B,), "p", most)
+            self.assertTrue(shows_mended(SHOP, LOG, (A, V), (B,), "p", most, found))
+            for other in [found + ((),), found + ((), ()), found[:1], found[:1] + ((),) + found[1:], (),
+                              found[:1] + ((), ()) + found[-1:], found[:1] + ((),) * 3 + found[-1:]]:
+                self.assertFalse(shows_mended(SHOP, LOG, (A, V), (B,), "p", most, other))
 
     def test_orders_that_are_no_beginnings(self):
         found = mended(SHOP, LOG, (A, V), (B,), "p", 0)

@@ -6,7 +6,7 @@ import unittest
 
 from spoilorder.errors import BadItems, BadLog, BadWorkers, Full, NoWorld
 from spoilorder.plans import queue, shows_queue, shows_spread, spread
-from tests.common import A, B, G, V, a_world, any_values, assert_raises, one_group, some_otherwise
+from tests.common import A, B, G, V, a_world, any_values, assert_raises, one_group, some_otherwise, two_groups
 from tests.plain_plans import all_dealings, all_interleavings, all_rows, is_plain_safe, is_queue, is_spread, longest
 from tests.test_filled import NO_WORLD
 from tests.test_is_safe import ANEW, LOG, some_logs, told_run
@@ -127,6 +127,10 @@ class ErrorsTest(unittest.TestCase):
             (), [A], (A, A), (B, A), (A, ("a", 2)), (G,), (("a", True),), (A, B, V, ("w", 1)), (("x", 1),), (["a", 1],), A, (A, None),
             (A, B, V, V)]
         full = LOG + (told_run("p", A), told_run("p", A))
+        four = (A, B, V, ("w", 1))
+        for call in (spread, queue):
+            assert_raises(self, BadItems, four, call, two_groups(), (), four, ("p",), loose=four)
+            self.assertEqual(call(two_groups(), (), four[1:], ("p",), loose=four[1:])[0], "rows" if call == spread else "order")
         for value in wrong:
             for log, workers, loose in [(LOG, ("p",), ()), (LOG, None, None), (full, (), (A,))]:
                 self.raises(BadItems, value, log, value, workers, loose)
@@ -188,6 +192,30 @@ class ShowsTest(unittest.TestCase):
             self.assertFalse(shows_queue(SHOP, LOG, (A, V), ("p", "q"), ("none", (other, found[1][1]))), other)
         for book in [found[1][1:], found[1][:1], found[1][::-1], found[1] + found[1][:1], list(found[1]), ()]:
             self.assertFalse(shows_queue(SHOP, LOG, (A, V), ("p", "q"), ("none", book)))
+
+    def test_plans_that_are_not_safe(self):
+        # The book is right for what comes ahead of them.
+        found = queue(SHOP, LOG, (A, V), ("p", "q"))
+        self.assertEqual([entry[0] for entry in found[1]], [(A, V), (V, A)])
+        for order, book in [((A, V), ()), ((V, A), found[1][:1])]:
+            self.assertFalse(is_queue(SHOP, LOG, (A, V), ("p", "q"), (), ("order", order, book)))
+            self.assertFalse(shows_queue(SHOP, LOG, (A, V), ("p", "q"), ("order", order, book)))
+        found = spread(SHOP, LOG, (A, V), ("p", "q"))
+        self.assertEqual(found[0], "none")
+        short = tuple(entry for entry in found[1] if longest(entry[0]) == 1)
+        for entry in found[1]:
+            book = () if longest(entry[0]) == 1 else short
+            self.assertFalse(is_spread(SHOP, LOG, (A, V), ("p", "q"), (), ("rows", entry[0], book)))
+            self.assertFalse(shows_spread(SHOP, LOG, (A, V), ("p", "q"), ("rows", entry[0], book)))
+
+    def test_lengths(self):
+        for call, shows in [(spread, shows_spread), (queue, shows_queue)]:
+            for items in [(V,), (A, V)]:
+                found = call(SHOP, LOG, items, ("p", "q"))
+                self.assertTrue(shows(SHOP, LOG, items, ("p", "q"), found))
+                for other in [found + ((),), found + ((), ()), found[:1], found[:1] + ((),) + found[1:], (),
+                              found[:1] + ((), ()) + found[-1:], found[:1] + ((),) * 3 + found[-1:]]:
+                    self.assertFalse(shows(SHOP, LOG, items, ("p", "q"), other))
 
     def test_other_plans(self):
         found = spread(SHOP, LOG, (A, B, V), ("p", "q"))

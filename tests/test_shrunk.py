@@ -134,6 +134,26 @@ class ShowsShrunkTest(unittest.TestCase):
                        (-3, 3), (True, 3), (1, 3, 3), ("1", 3), None, (1, None), ((1,), 3), (2, 2)]:
             self.assertFalse(self.shows(places), places)
 
+    def test_three_places(self):
+        both = Glass("cell c ok bad\ncell d ok bad\ngroup g\n  check a 1\n    set c bad\n  check b 1\n    set d bad\n"
+                     "  check v 1\n    if c = bad\n      want d ok")
+        found = shrunk(both, (A, B, V))
+        self.assertEqual(found[1], (0, 1, 2))
+        self.assertEqual(both.outcomes((B, A, V)), ("pass", "pass", "fail"))
+        self.assertFalse(shows_shrunk(both, (A, B, V), ("kept", (1, 0, 2), found[2])))
+        twice = Glass("cell c lo mid hi\ngroup g\n  check a 1\n    if c = mid\n      set c hi\n    if c = lo\n      set c mid\n"
+                      "  check b 1\n    set c hi\n  check v 1\n    if c = hi\n      fail")
+        found = shrunk(twice, (A, A, V))
+        self.assertEqual(found[1], (0, 1, 2))
+        for places in [(0, 0, 2), (1, 1, 2), (1, 0, 2)]:
+            self.assertFalse(shows_shrunk(twice, (A, A, V), ("kept", places, found[2])))
+        # A state that two items lead to at first, then one: what counts is the fewest.
+        found = shrunk(twice, (A, A, B, V))
+        self.assertEqual(found[1], (2, 3))
+        self.assertEqual(found[2], plain_heights(twice, (A, A, B, V)))
+        self.assertIn((3, ((("g", ("hi",)),), ()), 1), found[2])
+        self.assertIn((2, ((("g", ("hi",)),), ()), 2), found[2])
+
     def test_bool_as_a_place(self):
         world = World(one_group(), ((A, "near", "pass", ((("pass", A), "spoils"),)), (G, "near", "pass", ())))
         found = shrunk(world, (A, A))

@@ -251,6 +251,25 @@ class ShowsUnderTest(unittest.TestCase):
             self.assertEqual(are_clashes(SHOP, LOG, (), V, held, clashes), good, (held, clashes))
             self.assertEqual(shows_under(SHOP, LOG, V, held, value), good, (held, clashes))
 
+    def test_held_letters_are_not_struck(self):
+        # v passes behind a; behind b, a it fails: b or the opening decides, or first would have to be both.
+        log = (("run", "p", A, "pass"), ("run", "p", V, "pass"), ("clear",), ("fresh", "p"),
+               ("run", "p", B, "pass"), ("run", "p", A, "pass"), ("run", "p", V, "fail"))
+        a, b, g = ("pass", A), ("pass", B), ("pass", G)
+        held = ("near", None, ((a, "mends"), (b, "idle"), (g, "idle")))
+        self.assertTrue(shows_under(SHOP, log, V, held, ("clash", (((), V, (("near", (), (6,)),)),))))
+        for strikings, ends in [(((a, 1, 6),), (1, 6)), (((a, 1, 6),), (6,)), ((), (1, 6)), ((), (1,)), (((b, 1, 6),), (6,))]:
+            self.assertFalse(shows_under(SHOP, log, V, held, ("clash", (((), V, (("near", strikings, ends),)),))))
+        idle = ("near", None, ((b, "idle"), (g, "idle")))
+        self.assertTrue(shows_under(SHOP, log, V, idle, ("clash", (((), V, (("near", ((a, 1, 6),), (1, 6)),)),))))
+
+    def test_lengths(self):
+        for value in [IDLE_ANSWER, under(SHOP, LOG, V, FREE)]:
+            held = IDLE if value == IDLE_ANSWER else FREE
+            self.assertTrue(shows_under(SHOP, LOG, V, held, value))
+            for other in [value + ((),), value + ((), ()), value[:-1], value + (None,) * 3]:
+                self.assertFalse(shows_under(SHOP, LOG, V, held, other))
+
     def test_one_thing_otherwise(self):
         chance = random.Random(53)
         kept = many = 0
