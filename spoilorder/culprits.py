@@ -2,7 +2,7 @@
 
 from spoilorder.errors import NoSample, NotTold
 from spoilorder.forms import is_integer
-from spoilorder.logs import letters_of, samples_of
+from spoilorder.logs import origins_of, samples_of
 from spoilorder.readings import possible_readings
 from spoilorder.strikes import WHERES
 from spoilorder.striking import under_by
@@ -23,7 +23,7 @@ def culprits(shop, log, event, thing):
 def suspects(shop, log, event, thing):
     """(event, letter) for each letter that can have decided, (-1, ()) for first, ascending."""
     sample = _asked_of(shop, log, event, thing)[1]
-    origins = _origins_of(shop, log, sample)
+    origins = origins_of(shop, log, sample)
     found = {}
     for where, number, answer in culprits(shop, log, event, thing):
         if answer[0] == "temper" and number == -1:
@@ -56,17 +56,3 @@ def _answer_by(rows, thing, outcome, where, ahead, number):
         return "later", max([place for place, letter in enumerate(ahead) if letter == ahead[number]])
     kinds = sorted(idle + [(ahead[number], DECIDING[outcome])])
     return under_by(rows, thing, (where, None, tuple(kinds)))
-
-
-def _origins_of(shop, log, sample):
-    """For near and far (event, letter) of each letter ahead of the sample."""
-    event, _, near, far = sample
-    worker = log[event][1]
-    fresh = max([number for number in range(event) if log[number] == ("fresh", worker)], default=-1)
-    clear = max([number for number in range(event) if log[number] == ("clear",)], default=-1)
-    brought = []
-    for number, row in enumerate(letters_of(shop, log, ())):
-        brought.extend([(number, letter) for letter in row])
-    beside = [pair for pair in brought if pair[0] > fresh and log[pair[0]][1] == worker]
-    # Both begin behind what took all away; the letters from the sample on are none of those ahead of it.
-    return {"near": beside[:len(near)], "far": [pair for pair in brought if pair[0] > clear][:len(far)]}

@@ -3,7 +3,7 @@
 from spoilorder.forms import is_row
 from spoilorder.logs import fillings_of, told_of
 from spoilorder.outlooks import Outlook, outcomes_in
-from spoilorder.readings import LogSamples, is_world_of
+from spoilorder.readings import is_world_of, source_of
 from spoilorder.strikes import HELD_KINDS, answer_of, is_as_held
 from spoilorder.worlds import World
 
@@ -54,7 +54,7 @@ class Inquiry:
         events = self._log + tail + trial
         if value[1] not in fillings_of(self._shop, events):
             return False
-        if not is_world_of(self._shop, LogSamples(self._shop, events, value[1]), value[2]):
+        if not is_world_of(self._shop, source_of(self._shop, events, value[1]), value[2]):
             return False
         if trial:
             return value[0] == outcomes_in(told_of(events, value[1])[len(self._log + tail):])

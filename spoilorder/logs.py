@@ -16,11 +16,9 @@ UNTOLD_OUTCOMES = ("fail", "pass", "skip")
 
 def is_log(shop, value):
     """Whether the value is a log of the shop."""
-    if not is_row(value, 0, MOST_EVENTS) or not all([is_event(shop, event) for event in value]):
+    if not isinstance(value, tuple) or not all([is_event(shop, event) for event in value]):
         return False
-    if len(workers_of(value)) > MOST_WORKERS or len(items_of(value)) > MOST_ITEMS or untold_of(value) > MOST_UNTOLD:
-        return False
-    return len(fillings_of(shop, value)) > 0
+    return has_room(value) and len(fillings_of(shop, value)) > 0
 
 
 def fillings(shop, log):
@@ -58,6 +56,13 @@ def check_filling(shop, log, filling):
     check_log(shop, log)
     if filling not in fillings_of(shop, log):
         raise BadFilling(filling)
+
+
+def has_room(events):
+    """Whether the events are within the bounds of a log."""
+    if len(events) > MOST_EVENTS or len(workers_of(events)) > MOST_WORKERS:
+        return False
+    return len(items_of(events)) <= MOST_ITEMS and untold_of(events) <= MOST_UNTOLD
 
 
 def is_event(shop, value):
@@ -167,6 +172,20 @@ def samples_of(shop, events, filling):
             near[event[1]] = ahead + (letter,)
             far = far + (letter,)
     return found
+
+
+def origins_of(shop, events, sample):
+    """For near and far (event, letter) of each letter ahead of a sample of the events, all of which are told."""
+    event, _, near, far = sample
+    worker = events[event][1]
+    fresh = max([number for number in range(event) if events[number] == ("fresh", worker)], default=-1)
+    clear = max([number for number in range(event) if events[number] == ("clear",)], default=-1)
+    brought = []
+    for number, row in enumerate(letters_of(shop, events, ())):
+        brought.extend([(number, letter) for letter in row])
+    beside = [pair for pair in brought if pair[0] > fresh and events[pair[0]][1] == worker]
+    # Both begin behind what took all away; the letters from the sample on are none of those ahead of it.
+    return {"near": beside[:len(near)], "far": [pair for pair in brought if pair[0] > clear][:len(far)]}
 
 
 def _is_untold(event):

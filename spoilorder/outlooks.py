@@ -2,7 +2,7 @@
 
 from spoilorder.errors import Full
 from spoilorder.logs import MOST_ITEMS, MOST_WORKERS, fillings_of, items_of, told_of, untold_of, workers_of
-from spoilorder.readings import Reading
+from spoilorder.readings import readings_of
 from spoilorder.worlds import World
 
 OUTCOMES = ("fail", "pass", "skip")
@@ -22,8 +22,8 @@ class Outlook:
         """The reading of the log with this filling and the tail behind it, None if a skip there cannot be."""
         key = (filling, tail)
         if key not in self._known:
-            events = told_of(self._log, filling) + tail
-            self._known[key] = Reading(self._shop, events, ()) if fillings_of(self._shop, events) else None
+            rows = readings_of(self._shop, told_of(self._log, filling) + tail)
+            self._known[key] = rows[0] if rows else None
         return self._known[key]
 
     def is_possible(self, filling, tail):

@@ -11,10 +11,10 @@ from spoilorder.worlds import World, temper_agrees, tempers_agree
 
 
 class LogSamples:
-    """The samples of a log with a filling, told by the numbers of their events."""
+    """The samples of things of a log, a dict as of samples_of; they are told by the numbers of their events."""
 
-    def __init__(self, shop, events, filling):
-        self._sampled = samples_of(shop, events, filling)
+    def __init__(self, sampled):
+        self._sampled = sampled
 
     def all_sampled(self):
         """The things that have samples, ascending."""
@@ -48,21 +48,24 @@ class LogSamples:
 
 
 class Reading:
-    """A log with one filling: tempers of all things, or a thing without a temper and its clashes."""
+    """A log with one filling: tempers of all things, or a thing without a temper and its clashes.
 
-    def __init__(self, shop, events, filling):
+    helds has what is held of a thing; of those that are not there nothing is.
+    """
+
+    def __init__(self, filling, source, helds):
         self.filling = filling
-        self.source = LogSamples(shop, events, filling)
+        self.source = source
         self.whole = True
         self.found_tempers = ()
         self.clashing = ()
         self.clashes = ()
-        for thing in self.source.all_sampled():
+        for thing in source.all_sampled():
             if self.whole:
-                self._add(thing)
+                self._add(thing, helds.get(thing, FREE))
 
-    def _add(self, thing):
-        temper, clashes = answer_of(self.source, thing, FREE)
+    def _add(self, thing, held):
+        temper, clashes = answer_of(self.source, thing, held)
         if temper:
             self.found_tempers = self.found_tempers + (temper,)
         else:
@@ -71,9 +74,14 @@ class Reading:
             self.clashes = clashes
 
 
+def source_of(shop, events, filling):
+    """The samples of the events with this filling."""
+    return LogSamples(samples_of(shop, events, filling))
+
+
 def readings_of(shop, events):
     """A reading for each filling of the events, ascending."""
-    return [Reading(shop, events, filling) for filling in fillings_of(shop, events)]
+    return [Reading(filling, source_of(shop, events, filling), {}) for filling in fillings_of(shop, events)]
 
 
 def possible_readings(shop, log):

@@ -2,7 +2,7 @@
 
 from spoilorder.logs import fillings_of, told_of
 from spoilorder.outlooks import outcomes_in
-from spoilorder.readings import LogSamples, is_world_of
+from spoilorder.readings import is_world_of, source_of
 
 
 def risk_of(outlook, runs, loose):
@@ -36,7 +36,7 @@ def is_risk(shop, log, runs, loose, filling, world):
     told = told_of(events, filling)[len(log):]
     if all([event[3] == "pass" or event[2] in loose for event in told]):
         return False
-    return is_world_of(shop, LogSamples(shop, events, filling), world)
+    return is_world_of(shop, source_of(shop, events, filling), world)
 
 
 def _finished(outlook, filling, tail, runs):

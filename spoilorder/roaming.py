@@ -17,7 +17,7 @@ class Roaming:
     def __init__(self, machine, many):
         self._machine = machine
         self._many = many
-        steps = _steps_of(machine, many)
+        steps = roamed(machine, many)[1]
         self._letters = _letters_among(steps)
         self._tracks = {where: _tracks_of(steps, where) for where in WHERES}
         self._walks = {}
@@ -59,8 +59,11 @@ class Roaming:
         return self._walks[key]
 
 
-def _steps_of(machine, many):
-    """For each state, told by a number, all moves, each as (move, letters, number of the state behind it)."""
+def roamed(machine, many):
+    """All states to which rows of moves lead, and for each of them all moves; raises TooMany.
+
+    A move is told as (move, letters, number of the state behind it); states are numbered by their places.
+    """
     moves = moves_of(machine, many)
     states = [machine.start(many)]
     numbers = {states[0]: 0}
@@ -77,7 +80,7 @@ def _steps_of(machine, many):
         if len(states) > MOST_STATES:
             raise TooMany(MOST_STATES)
         steps.append(row)
-    return steps
+    return states, steps
 
 
 def _letters_among(steps):

@@ -1,12 +1,14 @@
 """Striking letters out of samples, until there is a temper, or ends show that there is none.
 
+What is held can be "wild", too, kinds and first: it is never struck, and what it decides is in no striking and no end.
+
 Samples come from a source, an object with two methods. lasts(thing, where, struck) has for each last letter that is
 not struck, () for none, a dict with how a sample of each outcome is told. sample(thing, where, told) is
 (outcome, letters) of the sample that is told so, () if there is none.
 """
 
 from spoilorder.forms import is_row, is_same
-from spoilorder.worlds import are_kinds
+from spoilorder.worlds import WILD, are_kinds
 
 WHERES = ("near", "far")
 FREE = (None, None, ())
@@ -71,8 +73,9 @@ def _struck_out(source, thing, where, held):
         ends = _ends_of(lasts, held[1], fixed)
         if ends:
             return (), (where, tuple(strikings), ends)
-        # Held letters and () are none of these: with both outcomes they would have made ends.
-        fallen = [letter for letter in sorted(list(lasts)) if len(lasts[letter]) == 2]
+        # With both outcomes what is held here is wild: anything else would have made ends.
+        both = [letter for letter in sorted(list(lasts)) if len(lasts[letter]) == 2]
+        fallen = [letter for letter in both if letter != () and letter not in fixed]
         if not fallen:
             first, kinds = _left_of(lasts, held[1], fixed)
             return (thing, where, first, kinds), ()
@@ -88,7 +91,7 @@ def _ends_of(lasts, first, fixed):
     if first is None and len(bare) == 2:
         return bare["pass"], bare["fail"]
     for outcome in bare:
-        if first not in (None, outcome):
+        if first not in (None, outcome, WILD):
             return (bare[outcome],)
     for letter in sorted(list(lasts)):
         contrary = CONTRARY.get(fixed.get(letter, ""), "")
@@ -103,10 +106,10 @@ def _left_of(lasts, first, fixed):
     told = first
     for letter in lasts:
         outcome = "pass" if "pass" in lasts[letter] else "fail"
-        if letter != ():
+        if letter == ():
+            told = outcome if told is None else told
+        elif letter not in fixed:
             kinds[letter] = "mends" if outcome == "pass" else "spoils"
-        elif told is None:
-            told = outcome
     return "pass" if told is None else told, tuple(sorted([(letter, kinds[letter]) for letter in kinds]))
 
 
@@ -130,7 +133,7 @@ def _is_clash(source, thing, where, held, value):
         return False
     outcome, last = seen[0]
     if last == ():
-        return held[1] not in (None, outcome)
+        return held[1] not in (None, outcome, WILD)
     return CONTRARY.get(fixed.get(last, ""), "") == outcome
 
 

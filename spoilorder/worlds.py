@@ -7,7 +7,9 @@ from spoilorder.states import check_number, check_run, first_state, opened_in, o
 
 MOST_ITEMS = 5
 KINDS = ("mends", "spoils")
-MOODS = {"mends": "pass", "spoils": "fail"}
+# A wild letter, a wild first leave a mood that agrees with any outcome; no world has one.
+WILD = "wild"
+MOODS = {"mends": "pass", "spoils": "fail", WILD: WILD}
 
 
 class World:
@@ -133,7 +135,7 @@ def temper_agrees(temper, sample):
     ahead = sample[2] if temper[1] == "near" else sample[3]
     for letter in ahead:
         mood = turns.get(letter, mood)
-    return sample[1] == mood
+    return mood in (sample[1], WILD)
 
 
 def tempers_agree(tempers, sampled):

@@ -58,6 +58,7 @@ def any_values():
 OTHER_WORDS = {
     "pass": "fail", "fail": "pass", "near": "far", "far": "near", "mends": "spoils", "spoils": "mends", "skip": "fail",
     "idle": "mends", "world": "clash", "clash": "world", "fails": "never", "never": "fails", "a": "b", "b": "a",
+    "reasons": "more", "more": "reasons", "lie": "wild", "leaves": "feels", "feels": "leaves", "wild": "mends",
     "v": "a", "g": "h", "p": "q", "q": "p", "run": "fresh", "ok": "bad", "temper": "clash", "none": "world",
 }
 

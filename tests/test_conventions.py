@@ -5,17 +5,25 @@ import inspect
 import unittest
 
 from spoilorder import (
-    asking, culprits as culprits_file, drawing, errors, glasses, logs, looks, machines, plans, shops, striking, worlds)
+    asking, blaming, cleaning, culprits as culprits_file, desks, drawing, driving, errors, glasses, hosts, logs, looks, machines,
+    plans, reading, shops, showing, striking, worlds)
 from spoilorder.asking import asked, shows_asked
+from spoilorder.blaming import blamed, shows_blamed
+from spoilorder.cleaning import cleaned, shows_cleaned, with_offers
 from spoilorder.culprits import culprits, suspects
+from spoilorder.desks import Desk
 from spoilorder.drawing import drawn, drawn_under, glass_of, shows_drawn, shows_drawn_under
+from spoilorder.driving import Runner, drive
 from spoilorder.glasses import Glass
+from spoilorder.hosts import Host
 from spoilorder.logs import fillings, is_log, letters, samples
 from spoilorder.looks import shows_filled, shows_under
 from spoilorder.machines import alike, shows_alike, shows_shrunk, shows_worst, shrunk, worst
 from spoilorder.plans import (
     is_safe, mended, queue, shows_mended, shows_queue, shows_safe, shows_spread, spread)
+from spoilorder.reading import read_host, read_log, read_shop, read_torn, read_world
 from spoilorder.shops import Shop
+from spoilorder.showing import show_host, show_log, show_shop, show_world
 from spoilorder.striking import filled, forecast, kinds, possible, under, wheres
 from spoilorder.worlds import World
 from tests.common import A, B, G, V, a_glass, a_world, any_values, one_group
@@ -81,6 +89,31 @@ FUNCTIONS = {
         "asked": ["shop", "log", "trials", "question", "most"],
         "shows_asked": ["shop", "log", "trials", "question", "most", "value"],
     },
+    blaming: {
+        "blamed": ["shop", "log", "prices", "most"],
+        "shows_blamed": ["shop", "log", "prices", "most", "value"],
+    },
+    driving: {
+        "drive": ["host", "runner", "most"],
+    },
+    cleaning: {
+        "with_offers": ["glass", "offers"],
+        "cleaned": ["glass", "offers", "prices", "many"],
+        "shows_cleaned": ["glass", "offers", "prices", "many", "value"],
+    },
+    showing: {
+        "show_shop": ["shop"],
+        "show_log": ["shop", "log"],
+        "show_world": ["world"],
+        "show_host": ["host"],
+    },
+    reading: {
+        "read_shop": ["text"],
+        "read_log": ["shop", "text"],
+        "read_world": ["shop", "text"],
+        "read_host": ["text"],
+        "read_torn": ["text"],
+    },
 }
 METHODS = {
     Shop: {
@@ -93,21 +126,51 @@ METHODS = {
     },
     World: {"__init__": ["shop", "tempers"], "agrees": ["log", "filling"], **MACHINE_METHODS},
     Glass: {"__init__": ["text"], **MACHINE_METHODS},
+    Host: {
+        "__init__": ["shop", "workers"],
+        "fresh": ["worker"],
+        "clear": [],
+        "gap": ["worker"],
+        "run": ["worker", "check", ("outcome", None)],
+        "tell": ["event", "outcome"],
+        "change": ["check"],
+        "begin": ["checks"],
+        "back": [],
+        "possible": [],
+        "forecast": [("events", ())],
+        "suspects": ["event"],
+        "blamed": ["prices", "most"],
+        "next": ["worker", "checks"],
+        "copy": [],
+        "trial": [],
+        "tried": ["deed", ("*", "keep", False)],
+        "__eq__": ["other"],
+        "__iter__": [],
+    },
+    Runner: {"__init__": ["machine", "workers"], "run": ["worker", "item"], "fresh": ["worker"], "clear": []},
+    Desk: {"__init__": ["text"], "say": ["line"]},
 }
 PROPERTIES = {
     Shop: ["groups", "checks"],
     World: ["shop", "tempers", "things", "all_items"],
     Glass: ["text", "shop", "all_items", "things", "cells"],
+    Host: ["shop", "workers", "log", "present", "left"],
+    Runner: ["state"],
+    Desk: ["host"],
 }
+HOST_TEXT = "workers p q\ngroup g a b v\nrun p a pass\nrun q v -\nclear\nbegin a b"
 
 
 class InterfaceTest(unittest.TestCase):
     def parameters(self, call):
-        """The names of the parameters; those behind a `*` behind one, with their defaults."""
+        """The names of the parameters, with their defaults; those behind a `*` behind one."""
         found = []
         for one in inspect.signature(call).parameters.values():
             if one.kind == one.KEYWORD_ONLY:
                 found.append(("*", one.name, one.default))
+            elif one.default is not one.empty:
+                self.assertEqual(one.kind, one.POSITIONAL_OR_KEYWORD)
+                found.append((one.name, one.default))
             else:
                 self.assertEqual((one.kind, one.default), (one.POSITIONAL_OR_KEYWORD, one.empty))
                 found.append(one.name)
@@ -122,7 +185,8 @@ class InterfaceTest(unittest.TestCase):
                 self.assertEqual(self.parameters(call), names)
 
     def test_classes(self):
-        for made, module in [(Shop, shops), (World, worlds), (Glass, glasses)]:
+        for made, module in [
+                (Shop, shops), (World, worlds), (Glass, glasses), (Host, hosts), (Runner, driving), (Desk, desks)]:
             self.assertEqual(made.__module__, module.__name__)
             self.assertEqual(made.__bases__, (object,))
 
@@ -137,7 +201,7 @@ class InterfaceTest(unittest.TestCase):
                 self.assertIsInstance(vars(made)[name], property)
 
     def test_properties_are_not_assigned(self):
-        for value in (one_group(), a_world(), a_glass()):
+        for value in (one_group(), a_world(), a_glass(), read_host(HOST_TEXT), Runner(a_glass(), ("p",)), Desk(HOST_TEXT)):
             for name in PROPERTIES[value.__class__]:
                 with self.assertRaises(AttributeError):
                     setattr(value, name, ())
@@ -171,7 +235,7 @@ class CallsTest(unittest.TestCase):
             (world.freshened, {"state": state, "number": 1}),
             (world.cleared, {"state": state}),
             (world.outcomes, {"order": (A, V, B, V)}),
-        ] + self.machine_calls() + self.striking_calls() + self.planning_calls()
+        ] + self.machine_calls() + self.striking_calls() + self.planning_calls() + self.host_calls() + self.cleaning_calls()
 
     def machine_calls(self):
         world, glass = self.world, self.glass
@@ -231,6 +295,52 @@ class CallsTest(unittest.TestCase):
                 "shop": shop, "log": told, "trials": trials, "question": ("where", V), "most": 1, "value": ("open", ())}),
         ]
 
+    def host_calls(self):
+        """What can be asked of a host without changing it."""
+        host, log = read_host(HOST_TEXT), read_host(HOST_TEXT).log
+        found = blamed(self.shop, log, (1, 2, 3, 4), 5)
+        return [
+            (Host, {"shop": self.shop, "workers": ("p", "q")}),
+            (blamed, {"shop": self.shop, "log": log, "prices": (1, 2, 3, 4), "most": 5}),
+            (shows_blamed, {"shop": self.shop, "log": log, "prices": (1, 2, 3, 4), "most": 5, "value": found}),
+            (host.forecast, {"events": (("run", "p", B, None),)}),
+            (host.blamed, {"prices": (1, 2, 3, 4), "most": 5}),
+            (host.next, {"worker": "p", "checks": ("a", "b")}),
+            (Desk("workers p q\ngroup g a b v\nrun p a pass").say, {"line": "why 0"}),
+            (show_shop, {"shop": self.shop}),
+            (show_log, {"shop": self.shop, "log": log}),
+            (show_world, {"world": self.world}),
+            (show_host, {"host": host}),
+            (read_shop, {"text": "group g a b"}),
+            (read_log, {"shop": self.shop, "text": "clear\nrun p a 1 -"}),
+            (read_world, {"shop": self.shop, "text": "opening g near pass\nspoils close g"}),
+            (read_host, {"text": HOST_TEXT}),
+        ]
+
+    def cleaning_calls(self):
+        offers = (("g", "close", "c", "ok"), ("g", "open", "c", "ok"))
+        told = {"glass": self.glass, "offers": offers, "prices": (2, 1), "many": 1}
+        return [
+            (with_offers, {"glass": self.glass, "offers": offers}),
+            (cleaned, told),
+            (shows_cleaned, {**told, "value": cleaned(**told)}),
+        ]
+
+    def test_what_changes_hosts_by_position_and_by_name(self):
+        one, other = Host(self.shop, ("p", "q")), Host(self.shop, ("p", "q"))
+        for name, told in [
+                ("begin", {"checks": ("a", "b")}), ("fresh", {"worker": "p"}), ("clear", {}), ("gap", {"worker": "q"}),
+                ("run", {"worker": "p", "check": "a", "outcome": "fail"}), ("run", {"worker": "p", "check": "a"}),
+                ("tell", {"event": 3, "outcome": "pass"}), ("change", {"check": "v"}), ("back", {})]:
+            method, twin = getattr(one, name), getattr(other, name)
+            # Python takes no keywords for what has no parameters; all others take them in any sequence.
+            self.assertEqual(method(*told.values()), twin(**dict(reversed(told.items()))))
+            self.assertTrue(one == other)
+        runner, beside = Runner(self.glass, ("p", "q")), Runner(workers=("p", "q"), machine=self.glass)
+        self.assertEqual(drive(one, runner, 3), drive(most=3, runner=beside, host=other))
+        self.assertTrue(one == other and runner.state == beside.state)
+        self.assertTrue(read_torn(text=HOST_TEXT)[0] == read_torn(HOST_TEXT)[0])
+
     def test_loose_by_name_only(self):
         runs = (("run", "p", B, None), ("run", "q", V, None))
         for call, args in [(is_safe, [runs]), (shows_safe, [runs, ("safe",)]), (spread, [(B, V), ("p",)]), (queue, [(B, V), ("p",)]),
@@ -253,9 +363,11 @@ class CallsTest(unittest.TestCase):
                 return all(only_tuples(part) for part in value)
             return value is None or isinstance(value, (str, int, World)) and not isinstance(value, bool)
 
+        made = (Shop, World, Glass, Host, with_offers, read_shop, read_world, read_host)
+
         for call, named in self.calls():
             found = call(**named)
-            if call not in (Shop, World, Glass) and not isinstance(found, bool):
+            if call not in made and not isinstance(found, bool):
                 self.assertTrue(only_tuples(found), call)
         for value in (self.shop, self.world, self.glass):
             for name in PROPERTIES[value.__class__]:

@@ -204,10 +204,15 @@ class FormTest(unittest.TestCase):
         for path, tree in self.trees.items():
             at_top = {node.name for node in tree.body if isinstance(node, ast.ClassDef)}
             at_top |= {alias.name for node in tree.body if isinstance(node, ast.ImportFrom) for alias in node.names}
+            in_classes = {
+                (node.name, node.lineno) for made in tree.body if isinstance(made, ast.ClassDef) for node in made.body
+                if isinstance(node, ast.FunctionDef)}
             for name, line in bound(tree):
                 where = f"{path.name}:{line}: {name}"
                 self.assertNotIn(name, BARRED_NAMES, where)
-                self.assertNotIn(name, vars(builtins), where)
+                # A method may be called next: L8.
+                if (name, line) not in in_classes or name != "next":
+                    self.assertNotIn(name, vars(builtins).keys(), where)
                 self.assertRegex(name, r"^(_|_?[A-Za-z][A-Za-z0-9_]*|__[a-z]+__)$", where)
             for node in ast.walk(tree):
                 if isinstance(node, ast.arg):
