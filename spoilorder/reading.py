@@ -49,8 +49,8 @@ def read_host(text):
 def read_torn(text):
     """The host of all lines that end with a line feed, and what stands behind the last line feed."""
     _check_text(text)
-    whole, feed, rest = text.rpartition("\n")
-    return _host_of(whole.split("\n") if feed else []), rest
+    whole, _, rest = text.rpartition("\n")
+    return _host_of(lines_of(whole)), rest
 
 
 def _check_text(text):

@@ -245,6 +245,15 @@ class BlamedTest(unittest.TestCase):
             longest = max(len(entry[0]) for entry in found[1])
             self.assertEqual(longest, {27: 3, 20: 3, 8: 0}[most])
 
+    def test_a_lie_that_is_touched_again(self):
+        # One lie turned, the same run still clashes with others; a tuple has each reason once.
+        log = turns(*[(v1(outcome),) for outcome in ("pass", "fail") * 3])
+        found = blamed(SHOP, log, (1, 9, 9, 9), 27)
+        self.assertEqual(least_price(SHOP, log, (1, 9, 9, 9), 27, list_of_likely(SHOP, log)), 3)
+        self.assertTrue(is_blamed(SHOP, log, (1, 9, 9, 9), 27, found, 3))
+        self.assertTrue(shows_blamed(SHOP, log, (1, 9, 9, 9), 27, found))
+        self.assertIn(2, [len(entry[0]) for entry in found[5]])
+
     def test_book(self):
         found = blamed(SHOP, EDITIONS, (2, 3, 9, 4), 27)
         self.assertEqual((found[1], [entry[0] for entry in found[5]]), (2, [()]))

@@ -105,11 +105,14 @@ EXAMPLES = {
 class DocumentTest(unittest.TestCase):
     def test_examples(self):
         for section, text in EXAMPLES.items():
-            found = doctest.DocTestParser().get_doctest(text, {}, f"section {section}", None, 0)
-            self.assertTrue(found.examples[-1].want)
-            told = []
-            result = doctest.DocTestRunner(verbose=False).run(found, out=told.append)
-            self.assertEqual((result.failed, result.attempted), (0, len(found.examples)), "".join(told))
+            names, answers = {}, 0
+            for example in doctest.DocTestParser().get_examples(text):
+                if example.want:
+                    self.assertEqual(repr(eval(example.source, names)), example.want.rstrip("\n"), section)
+                    answers += 1
+                else:
+                    exec(example.source, names)
+            self.assertGreater(answers, 0)
 
     def test_there_are_ten(self):
         self.assertEqual(list(EXAMPLES), [5, 6, 7, 8, 9, 10, 11, 12, 14, 17])

@@ -169,6 +169,48 @@ class FormTest(unittest.TestCase):
             if isinstance(node.ctx, ast.Store):
                 self.assertNotIn(node.attr, properties, where)
 
+    def test_properties_and_methods_apart(self):
+        """L5, L26"""
+        properties, methods = set(), set()
+        for _, made in self.nodes(ast.ClassDef):
+            for node in made.body:
+                if isinstance(node, ast.FunctionDef):
+                    (properties if node.decorator_list else methods).add(node.name)
+        self.assertEqual(properties & methods, set())
+        builtin = {name for one in ("", 0, [], {}, set(), b"", ()) for name in dir(one)}
+        self.assertEqual(properties & builtin, set())
+        self.assertLessEqual({name for name in methods & builtin if not name.startswith("__")}, METHODS)
+
+    def test_with_and_iteration(self):
+        """L5, L6"""
+        entered = [
+            {node.name: node for node in made.body if isinstance(node, ast.FunctionDef)}
+            for _, made in self.nodes(ast.ClassDef)]
+        self.assertEqual(len([methods for methods in entered if "__exit__" in methods]), 1)
+        for methods in entered:
+            self.assertEqual("__enter__" in methods, "__exit__" in methods)
+            if "__exit__" in methods:
+                method = methods["__exit__"]
+                self.assertEqual([one.arg for one in method.args.args], ["self", "kind", "value", "trace"])
+                names = [node.id for node in ast.walk(method) if isinstance(node, ast.Name)]
+                self.assertLessEqual(set(names), {"self", "kind"})
+                kinds = (ast.If, ast.Assign, ast.Pass)
+                rows = [node for node in ast.walk(method) if isinstance(node, ast.stmt) and node is not method]
+                self.assertTrue(all(isinstance(node, kinds) for node in rows))
+                self.assertFalse([node for node in ast.walk(method) if isinstance(node, ast.Call)])
+            if "__iter__" in methods:
+                self.assertEqual(len(methods["__iter__"].body), 1)
+                self.assertRegex(ast.unparse(methods["__iter__"].body[0]), r"^return iter\(self(\.\w+){1,2}\)$")
+                self.assertNotIn("__len__", methods)
+        for where, node in self.nodes(ast.With):
+            self.assertTrue(all(isinstance(item.context_expr, ast.Call) for item in node.items), where)
+
+    def test_methods_of_builtins_without_keywords(self):
+        """L22, L25"""
+        for where, node in self.nodes(ast.Call):
+            if isinstance(node.func, ast.Attribute) and node.func.attr in METHODS:
+                self.assertEqual(node.keywords, [], where)
+
     def test_lambdas(self):
         """L13"""
         lines = [where for where, _ in self.nodes(ast.Lambda)]

@@ -97,10 +97,34 @@ class ShowsBlamedTest(unittest.TestCase):
         found = blamed(SHOP, EDITIONS, (9, 1, 9, 9), 27)
         for reasons in ((("leaves", A),), (("leaves", B),), (("feels", ("a", 2)), ("leaves", ("a", 2))), (("lie", 2),),
                         (("leaves", ("a", 2)), ("leaves", ("a", 2))), [("leaves", ("a", 2))], (["leaves", ("a", 2)],),
-                        (("lie", True),), (("wild", ("b", 0), ()),), (("wild", V, []),), (("wild", V),), ((), ())):
+                        (("lie", True),), (("wild", ("b", 0), ()),), (("wild", V, []),), (("wild", V),), ((), ()),
+                        (("leave", ("a", 2)),), (("pass", ("a", 2)),), (("leaves", ("a", True)),), (("leaves", ["a", 2]),),
+                        (("leaves", "a"),), (("leaves", ("a", 3)),), (("lie", "0"),), (("lie", None),), (("lie", -1),),
+                        (("lie", 6),), (("lie", (0,)),), (("lie", 0, ()),), (("wild", "v", ()),), (("wild", V, "a"),),
+                        (("wild", V, ("pass", ("a", 10))),), (("mild", V, ()),), (("feels", ("v", 2)),), ("leaves",), (None,)):
             for price in (0, 1, 2, 9, 10):
                 other = ("reasons", price, reasons) + found[3:]
                 self.assertFalse(shows_blamed(SHOP, EDITIONS, (9, 1, 9, 9), 27, other), reasons)
+            book = ((reasons, found[5][0][1]),)
+            for other in (book, found[5] + book, book + found[5]):
+                self.assertFalse(shows_blamed(SHOP, EDITIONS, (9, 1, 9, 9), 27, found[:5] + (other,)), reasons)
+                self.assertFalse(shows_blamed(SHOP, EDITIONS, (9, 1, 9, 9), 0, ("more", other)), reasons)
+
+    def test_wild_letters_are_never_struck(self):
+        # The opening and v both have no temper, so that one wild letter of v stands in the book.
+        log = turns((run(V, "skip"),), (a1(), v1("pass")), (a1(), v1("fail")), (v1("pass"),), (v1("fail"),))
+        prices, chance = (9, 9, 9, 1), random.Random(149)
+        reasons = (("wild", V, ("pass", A)),)
+        value = ()
+        while reasons not in [entry[0] for entry in (value[-1] if value else ())]:
+            value = other_result(chance, SHOP, log, prices, 2, 2)
+        self.assertTrue(shows_blamed(SHOP, log, prices, 2, value))
+        for strikings, ends, right in (
+                (((("pass", G), 11, 14),), (11, 14), True), (((("pass", A), 4, 8), (("pass", G), 11, 14)), (11, 14), False),
+                (((("pass", A), 4, 8), (("pass", G), 4, 8)), (4, 8), False)):
+            clashes = tuple((where, strikings, ends) for where in ("near", "far"))
+            book = tuple((one, (((), V, clashes),) if one == reasons else rows) for one, rows in value[-1])
+            self.assertIs(shows_blamed(SHOP, log, prices, 2, value[:-1] + (book,)), right)
 
     def test_tempers(self):
         log = turns((a1(), v1("pass")), (a1(), v1("fail")), (v1("pass"),))
