@@ -88,6 +88,7 @@ def _chosen(host, runner, worker):
         runner.fresh(worker)
         host.fresh(worker)
         found = host.next(worker, left)
+    # Taken in their sequence, the last two events can't be these here: the last one is that the worker was made fresh.
     if found is None and host.log[-2:] != (("fresh", worker), ("clear",)):
         runner.clear()
         host.clear()

@@ -71,8 +71,8 @@ def wild_letters(reasons, thing):
     return [reason[2] for reason in reasons if reason[0] == "wild" and reason[1] == thing]
 
 
-def strikes_out(rows, wild):
-    """Whether samples (outcome, letters) have no temper: letters are struck as long as any can be."""
+def all_struck(rows, wild):
+    """The letters of samples (outcome, letters) that can be struck, and the outcomes by the last letter that is left."""
     struck = set()
     while True:
         lasts = {}
@@ -81,8 +81,14 @@ def strikes_out(rows, wild):
             lasts.setdefault(left[-1] if left else (), set()).add(outcome)
         falling = [k for k in lasts if k != () and k not in wild and len(lasts[k]) == 2]
         if not falling:
-            return () not in wild and len(lasts.get((), ())) == 2
+            return struck, lasts
         struck.add(falling[0])
+
+
+def strikes_out(rows, wild):
+    """Whether samples (outcome, letters) have no temper."""
+    lasts = all_struck(rows, wild)[1]
+    return () not in wild and len(lasts.get((), ())) == 2
 
 
 def without_temper(samples, thing, reasons):
@@ -314,16 +320,7 @@ def other_temper(chance, samples, thing, reasons):
     sides = [side for side in (2, 3) if not strikes_out([(row[1], row[side]) for row in samples[thing]], wild)]
     side = chance.choice(sides)
     rows = [(row[1], row[side]) for row in samples[thing]]
-    struck = set()
-    while True:
-        lasts = {}
-        for outcome, letters in rows:
-            left = [k for k in letters if k not in struck]
-            lasts.setdefault(left[-1] if left else (), set()).add(outcome)
-        falling = [k for k in lasts if k != () and k not in wild and len(lasts[k]) == 2]
-        if not falling:
-            break
-        struck.add(falling[0])
+    struck, lasts = all_struck(rows, wild)
     first = "wild" if () in wild else min(lasts.get((), {chance.choice(("pass", "fail"))}))
     kinds = {letter: "wild" for letter in wild if letter != ()}
     for letter in {k for _, letters in rows for k in letters} | {("gap", 17), ("pass", ("b", 9))}:

@@ -133,6 +133,18 @@ class TrialTest(unittest.TestCase):
             first.keep()
         self.unchanged()
 
+    def test_the_same_trial_again(self):
+        trial = self.host.trial()
+        self.host.gap("q")
+        for keeps in (True, False, True):
+            before, many = told(self.host), len(self.host.log)
+            with trial:
+                self.host.clear()
+                if keeps:
+                    trial.keep()
+            self.assertEqual(len(self.host.log), many + keeps)
+            self.assertEqual(told(self.host)[keeps:], before)
+
     def test_of_its_own_host_alone(self):
         other = a_host(DEEDS)
         with self.host.trial() as trial:
