@@ -5,13 +5,11 @@ from spoilorder.culprits import suspects
 from spoilorder.errors import (
     BadChecks, BadLog, BadOutcome, BadWorkers, Full, NoCheck, NoEvent, NothingToUndo, NoWorker, NoWorld)
 from spoilorder.forms import ascends, is_integer, is_name, is_row
-from spoilorder.logs import TOLD_OUTCOMES, fillings_of, has_room, untold_of
+from spoilorder.logs import MOST_WORKERS, TOLD_OUTCOMES, fillings_of, has_room, untold_of
 from spoilorder.pages import Page
 from spoilorder.shops import LAST_EDITION
 from spoilorder.striking import forecast, possible
 from spoilorder.trials import Trial
-
-MOST_WORKERS = 3
 
 
 class Host:

@@ -8,7 +8,7 @@ from spoilorder.forms import is_name
 DIGITS = "0123456789"
 MOST_DIGITS = 9
 UNTOLD = "-"
-OUTCOMES = {"pass": "pass", "fail": "fail", "cut": "cut", "skip": "skip", UNTOLD: None}
+OUTCOMES = {"pass": "pass", "fail": "fail", "cut": "cut", "skip": "skip", "-": None}
 
 
 def lines_of(text):

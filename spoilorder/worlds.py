@@ -9,7 +9,7 @@ MOST_ITEMS = 5
 KINDS = ("mends", "spoils")
 # A wild letter, a wild first leave a mood that agrees with any outcome; no world has one.
 WILD = "wild"
-MOODS = {"mends": "pass", "spoils": "fail", WILD: WILD}
+MOODS = {"mends": "pass", "spoils": "fail", "wild": "wild"}
 
 
 class World:
