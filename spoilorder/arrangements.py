@@ -25,7 +25,7 @@ def interleavings_of(rows):
     merged = [((), left, right)]
     for _ in range(len(left) + len(right)):
         longer = []
-        for runs, first, second in merged:
+        for runs, first, second in list(merged):
             if first:
                 longer.append((runs + first[:1], first[1:], second))
             if second:

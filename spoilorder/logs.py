@@ -100,7 +100,7 @@ def fillings_of(shop, events):
     rows = [((), {})]
     for event in events:
         longer = []
-        for filling, opened in rows:
+        for filling, opened in list(rows):
             for told in _tellings(shop, event, opened):
                 added = (told[3],) if _is_untold(event) else ()
                 longer.append((filling + added, _opened_behind(shop, told, opened)))

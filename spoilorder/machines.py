@@ -52,7 +52,7 @@ def alike(one, other, many):
         if len(rows) > MOST_PAIRS:
             raise TooMany(MOST_PAIRS)
         behind = []
-        for pair in pairs:
+        for pair in list(pairs):
             for move in moves:
                 outcome, state = moved(one, pair[0], move)
                 unlike, beside = moved(other, pair[1], move)

@@ -10,7 +10,7 @@ def risk_of(outlook, runs, loose):
     rows = [(filling, ()) for filling in outlook.possible_fillings(())]
     for number, run in enumerate(runs):
         longer = []
-        for filling, tail in rows:
+        for filling, tail in list(rows):
             for behind in outlook.tails_behind(filling, tail, (run,)):
                 if behind[-1][3] != "pass" and run[2] not in loose:
                     return _finished(outlook, filling, behind, runs[number + 1:])
